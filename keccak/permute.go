@@ -40,7 +40,7 @@ func (a *state) permute() {
 		a.mixColumns()
 		b := a.moved()
 		for y := 0; y < len(a); y += 5 {
-			mixRow((*[5]uint64)(a[y:]), (*[5]uint64)(b[y:]))
+			mixRow(a[y:y+5], b[y:y+5])
 		}
 		a[0] ^= c
 	}
@@ -72,7 +72,7 @@ func (a *state) moved() state {
 }
 
 // mixRow sets the row a to what step 3 of a round makes of the row b.
-func mixRow(a, b *[5]uint64) {
+func mixRow(a, b []uint64) {
 	a[0] = b[0] ^ (^b[1] & b[2])
 	a[1] = b[1] ^ (^b[2] & b[3])
 	a[2] = b[2] ^ (^b[3] & b[4])
