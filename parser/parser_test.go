@@ -271,3 +271,26 @@ func TestMemory(t *testing.T) {
 	spoil(x)
 	wantExpr(t, text, op(syntax.Lt, count("a", "b"), number(1)), 0, api.OK)
 }
+
+// P17.1: an expression within its own limits, whose canonical text is too long for the lexer.
+func TestExprTextTooLong(t *testing.T) {
+	var l []string
+	for i := range 8 {
+		l = append(l, "abcdefghijk"+string(rune('a'+i)))
+	}
+	e := count(l...)
+	for range 6 {
+		e = op(syntax.Or, e, e)
+	}
+	s := syntax.PrintExpr(e)
+	if len(s) < 7000 || len(s) > api.MaxSource {
+		t.Fatalf("%d bytes", len(s))
+	}
+	wantExpr(t, s, e, 0, api.OK)
+	e = op(syntax.And, op(syntax.Le, e, e.Args[0]), op(syntax.True))
+	s = syntax.PrintExpr(e)
+	if len(s) <= api.MaxSource || syntax.CheckExpr(e) != api.OK {
+		t.Fatalf("%d bytes", len(s))
+	}
+	wantExpr(t, s, X{}, 0, api.ErrLimit)
+}
